@@ -5,11 +5,11 @@ import (
 	"strings"
 
 	"leakresponse/api"
+	"leakresponse/notation"
 )
 
 const (
 	longestText = 4000
-	special     = "\\[](){}|-"
 	hexDigits   = "0123456789abcdef"
 )
 
@@ -67,15 +67,10 @@ func setText(l []api.Range) string {
 }
 
 func byteText(c byte) string {
-	if isPlain(rune(c)) {
+	if notation.Plain(rune(c)) {
 		return string(rune(c))
 	}
 	return "\\x" + string(hexDigits[c>>4]) + string(hexDigits[c&15])
-}
-
-// isPlain reports whether a sign stands for itself.
-func isPlain(r rune) bool {
-	return r >= 33 && r <= 126 && !strings.ContainsRune(special, r)
 }
 
 // Parse returns the valid pattern whose text this is.
@@ -83,12 +78,10 @@ func Parse(s string) (api.Node, api.Errno) {
 	if len(s) > longestText {
 		return api.Node{}, api.ErrLimit
 	}
-	r := reader{s: s}
-	n, ok := r.choice()
-	if !ok || r.at < len(s) {
+	n, ok := notation.Read(s)
+	if !ok {
 		return api.Node{}, api.ErrSyntax
 	}
-	// The reader reads more than is the text of a pattern: needless parentheses, for example.
 	if again, e := Text(n); e != api.OK || again != s {
 		return api.Node{}, api.ErrSyntax
 	}

@@ -1,4 +1,5 @@
-package pattern
+// Package notation reads the texts of patterns, of any length, for the layers in which they stand.
+package notation
 
 import (
 	"strconv"
@@ -6,6 +7,34 @@ import (
 
 	"leakresponse/api"
 )
+
+const (
+	special   = "\\[](){}|-"
+	hexDigits = "0123456789abcdef"
+)
+
+// Plain reports whether a sign stands for itself.
+func Plain(r rune) bool {
+	return r >= 33 && r <= 126 && !strings.ContainsRune(special, r)
+}
+
+// Joined returns a node of at least two kids, or the only one.
+func Joined(op int, kids []api.Node) api.Node {
+	if len(kids) == 1 {
+		return kids[0]
+	}
+	return api.Node{Op: op, Kids: kids}
+}
+
+// Read reads a pattern. It reads more than the texts of patterns (needless parentheses, for example): they alone are the texts again of what is read.
+func Read(s string) (api.Node, bool) {
+	r := reader{s: s}
+	n, ok := r.choice()
+	if !ok || r.at < len(s) {
+		return api.Node{}, false
+	}
+	return n, true
+}
 
 // reader reads the text of a pattern; each of its parts reports whether it could be read.
 type reader struct {
@@ -48,7 +77,7 @@ func list(op int, item func() (api.Node, bool), more func() bool) (api.Node, boo
 		}
 		kids = append(kids, kid)
 	}
-	return joined(op, kids), true
+	return Joined(op, kids), true
 }
 
 // repeat reads a set or a pattern in parentheses, and how often it stands there.
@@ -100,7 +129,7 @@ func (r *reader) set() (api.Node, bool) {
 // sign reads the text of one byte.
 func (r *reader) sign() (byte, bool) {
 	c := r.next()
-	if isPlain(rune(c)) {
+	if Plain(rune(c)) {
 		r.at++
 		return c, true
 	}
