@@ -2,39 +2,48 @@ package machine
 
 // partition is states in blocks; it is made finer until no block tells two states of another one apart (the way of Hopcroft).
 type partition struct {
-	blocks  []int // for each state
-	members [][]int
-	waits   []bool // for each block, whether it has still to be looked from
-	queue   []int
+	states []int // block by block
+	places []int // for each state, where it stands in states
+	blocks []int // for each state
+	begins []int // for each block
+	ends   []int
+	marked []int  // for each block, how many states at its front are marked
+	waits  []bool // for each block, whether it has still to be looked from
+	queue  []int
+	marks  []int // the blocks with marked states
 }
 
 // refined returns the blocks of states that accept the same, for what each class of bytes leads to.
 func refined(leads [][]int, accepts []bool) []int {
-	p := &partition{blocks: make([]int, len(accepts)), members: [][]int{nil}, waits: []bool{false}}
-	var accepting []int
+	p := &partition{blocks: make([]int, len(accepts))}
+	for state := range accepts {
+		p.states = append(p.states, state)
+		p.places = append(p.places, state)
+	}
+	p.begin(0, len(accepts))
 	for state, is := range accepts {
-		p.members[0] = append(p.members[0], state)
 		if is {
-			accepting = append(accepting, state)
+			p.mark(state)
 		}
 	}
-	p.put(0)
-	p.split(accepting)
+	p.split()
 	from := make([]reverse, len(leads))
 	for i, l := range leads {
 		from[i] = reversed(l)
 	}
+	var targets []int
 	for len(p.queue) > 0 {
 		block := p.queue[len(p.queue)-1]
 		p.queue = p.queue[:len(p.queue)-1]
 		p.waits[block] = false
-		targets := append([]int{}, p.members[block]...)
+		targets = append(targets[:0], p.states[p.begins[block]:p.ends[block]]...)
 		for _, r := range from {
-			var states []int
 			for _, to := range targets {
-				states = append(states, r.states[r.begins[to]:r.begins[to+1]]...)
+				for _, state := range r.states[r.begins[to]:r.begins[to+1]] {
+					p.mark(state)
+				}
 			}
-			p.split(states)
+			p.split()
 		}
 	}
 	return p.blocks
@@ -48,62 +57,60 @@ type reverse struct {
 func reversed(leads []int) reverse {
 	r := reverse{begins: make([]int, len(leads)+1), states: make([]int, len(leads))}
 	for _, to := range leads {
-		r.begins[to+1]++
+		r.begins[to]++
 	}
-	for to := range leads {
-		r.begins[to+1] += r.begins[to]
+	sum := 0
+	for to := range r.begins {
+		sum += r.begins[to]
+		r.begins[to] = sum
 	}
-	at := append([]int{}, r.begins...)
 	for state, to := range leads {
-		r.states[at[to]] = state
-		at[to]++
+		r.begins[to]--
+		r.states[r.begins[to]] = state
 	}
 	return r
 }
 
-func (p *partition) put(block int) {
-	if !p.waits[block] {
-		p.waits[block] = true
-		p.queue = append(p.queue, block)
+// begin makes a block of the states that stand at these places, and lets it wait.
+func (p *partition) begin(from, to int) {
+	for _, state := range p.states[from:to] {
+		p.blocks[state] = len(p.begins)
 	}
+	p.queue = append(p.queue, len(p.begins))
+	p.begins = append(p.begins, from)
+	p.ends = append(p.ends, to)
+	p.marked = append(p.marked, 0)
+	p.waits = append(p.waits, true)
 }
 
-// split parts each block into those of its states that are among states, and the others.
-func (p *partition) split(states []int) {
-	hit := map[int][]int{}
-	var order []int
-	for _, state := range states {
-		block := p.blocks[state]
-		if hit[block] == nil {
-			order = append(order, block)
-		}
-		hit[block] = append(hit[block], state)
+// mark puts a state, which is not marked, to the front of its block.
+func (p *partition) mark(state int) {
+	block := p.blocks[state]
+	if p.marked[block] == 0 {
+		p.marks = append(p.marks, block)
 	}
-	for _, block := range order {
-		if len(hit[block]) < len(p.members[block]) {
-			p.part(block, hit[block])
-		}
-	}
+	at, front := p.places[state], p.begins[block]+p.marked[block]
+	other := p.states[front]
+	p.states[at], p.states[front] = other, state
+	p.places[other], p.places[state] = at, front
+	p.marked[block]++
 }
 
-// part moves states of a block into a new one.
-func (p *partition) part(block int, states []int) {
-	fresh := len(p.members)
-	p.members = append(p.members, states)
-	p.waits = append(p.waits, false)
-	for _, state := range states {
-		p.blocks[state] = fresh
-	}
-	var rest []int
-	for _, state := range p.members[block] {
-		if p.blocks[state] == block {
-			rest = append(rest, state)
+// split parts each block into its marked states and the others. The lesser part becomes the new block: it alone has to be looked from, if the block does not wait.
+func (p *partition) split() {
+	for _, block := range p.marks {
+		from, to := p.begins[block], p.ends[block]
+		middle := from + p.marked[block]
+		p.marked[block] = 0
+		switch {
+		case middle == to:
+		case middle-from <= to-middle:
+			p.begins[block] = middle
+			p.begin(from, middle)
+		default:
+			p.ends[block] = middle
+			p.begin(middle, to)
 		}
 	}
-	p.members[block] = rest
-	if p.waits[block] || len(states) <= len(rest) {
-		p.put(fresh)
-	} else {
-		p.put(block)
-	}
+	p.marks = p.marks[:0]
 }
