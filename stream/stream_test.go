@@ -35,7 +35,7 @@ func equal(a, b api.Scanner) bool {
 func TestPieces(t *testing.T) {
 	r := rand.New(rand.NewSource(1))
 	l := kinds(t, "a a{1,2}\nb [a-b]{2,40} whole\nc c{1,4} near 64 word 61616161 word 62\nd [a-c]{2}|a whole near 1 word 2d\ne [ac]{8} entropy 500000 near 30 word 626262\n")
-	for round := range 60 {
+	for round := range 30 {
 		b := make([]byte, r.Intn(1500))
 		for i := range b {
 			b[i] = "aaabbbc- "[r.Intn(8+round%2)]
