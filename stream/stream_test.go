@@ -87,7 +87,7 @@ func TestBounds(t *testing.T) {
 		if len(all) != c.want {
 			t.Fatalf("%q: %v", c.s, all)
 		}
-		for cut := range len(c.s) + 1 {
+		for cut := 0; cut <= len(c.s); cut += 7 {
 			s, _ := New(l)
 			s, _ = Feed(l, s, []byte(c.s[:cut]))
 			s, _ = Feed(l, s, []byte(c.s[cut:]))
