@@ -162,7 +162,7 @@ func TestRevives(t *testing.T) {
 		for range r.Intn(3) {
 			c.Snapshots = append(c.Snapshots, r.Intn(len(c.Sets)))
 		}
-		if round%10 == 0 && len(c.Snapshots) > 0 {
+		if round%100 == 0 && len(c.Snapshots) > 0 {
 			c.Snapshots = slices.Repeat(c.Snapshots[:1], 120)
 		}
 		for bit := -1; bit < 5; bit++ {
