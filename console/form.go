@@ -64,7 +64,7 @@ func (x field) right(c *api.Command) bool {
 	return n >= 0 && n <= x.most
 }
 
-func (x field) copy(to, from *api.Command) {
+func (x field) put(to, from *api.Command) {
 	if x.name != nil {
 		*x.name(to) = *x.name(from)
 		return

@@ -57,8 +57,8 @@ func Parse(text string) (api.Summary, api.Errno) {
 	if len(words) != len(line()) {
 		return api.Summary{}, api.ErrSyntax
 	}
-	print, err := strconv.ParseUint(words[printPlace], 10, 64)
-	m := api.Summary{Fingerprint: print, Public: words[publicPlace] == "public", Rotated: words[rotatedPlace] == "rotated", Dead: words[deadPlace] == "dead"}
+	mark, err := strconv.ParseUint(words[printPlace], 10, 64)
+	m := api.Summary{Fingerprint: mark, Public: words[publicPlace] == "public", Rotated: words[rotatedPlace] == "rotated", Dead: words[deadPlace] == "dead"}
 	ok := err == nil
 	for place, n := range numbers(&m) {
 		value, err := strconv.Atoi(words[place])
