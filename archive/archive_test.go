@@ -165,8 +165,8 @@ func TestWalk(t *testing.T) {
 		data := make([]byte, n)
 		r.Read(data)
 		in := format(t, api.Entry{Name: "x", Data: data})
-		_, e := Walk(format(t, api.Entry{Name: "in", Data: in}))
-		if (e == api.OK) != (len(in)+n <= api.MaxBytes) || e != api.OK && e != api.ErrLimit {
+		_, e := Walk(format(t, entry1("x", "1"), api.Entry{Name: "in", Data: in}))
+		if (e == api.OK) != (len(in)+n+1 <= api.MaxBytes) || e != api.OK && e != api.ErrLimit {
 			t.Error(n, len(in), e)
 		}
 	}

@@ -96,6 +96,11 @@ func TestComplete(t *testing.T) {
 	if !Holds(api.CheckNone, "") || Holds(5, "00") || Holds(-1, "00") {
 		t.Error("Holds")
 	}
+	for _, check := range checks {
+		if s, e := Complete(check, "7"); e != api.OK || !Holds(check, s) {
+			t.Error(check, "one byte")
+		}
+	}
 	if Holds(api.CheckCRC, "00000000") || Holds(api.CheckCRC, "123456789CBF43926") {
 		t.Error("CheckCRC needs nine bytes, and small digits")
 	}

@@ -100,10 +100,10 @@ func TestApply(t *testing.T) {
 			t.Error(i, run, n, e)
 		}
 		if e == api.OK {
-			got.Sets[0], got.Replicas[0].Generation = 9, 9
+			got.Sets[0], got.Replicas[0].Generation, got.Snapshots[0] = 9, 9, 9
 		}
 	}
-	if base.Sets[0] != 1 || base.Replicas[0].Generation != 0 || fence.Sets[0] != 1 {
+	if base.Snapshots[0] != 1 || base.Sets[0] != 1 || base.Replicas[0].Generation != 0 || fence.Sets[0] != 1 {
 		t.Error("shared memory")
 	}
 	c, n, e := Run(base, []api.ReplicaEvent{publish(0), syncOf(0), syncOf(7), publish(1)})

@@ -2,6 +2,8 @@ package coding
 
 import (
 	"bytes"
+	"encoding/base64"
+	"encoding/hex"
 	"slices"
 	"strings"
 	"testing"
@@ -130,6 +132,55 @@ func TestRunsHold(t *testing.T) {
 				t.Fatalf("%q: %v behind %v", b, r, last)
 			}
 			ends[r.Coding], last = r.To, r
+		}
+	}
+}
+
+// P1.1 and P1.2: every byte and every sign, against another library.
+func TestAllBytes(t *testing.T) {
+	r := uint32(3)
+	for n := range 500 {
+		b := make([]byte, n%7)
+		for i := range b {
+			r = r*1664525 + 1013904223
+			b[i] = byte(r >> 24)
+		}
+		h, _ := Encode(api.CodingHex, b)
+		s, _ := Encode(api.CodingBase64, b)
+		if h != hex.EncodeToString(b) || s != base64.StdEncoding.EncodeToString(b) {
+			t.Fatal(b, h, s)
+		}
+		upper, e := Decode(api.CodingHex, strings.ToUpper(h))
+		if back, f := Decode(api.CodingBase64, s); e != api.OK || f != api.OK || !bytes.Equal(back, b) || !bytes.Equal(upper, b) {
+			t.Fatal(b, e, f)
+		}
+	}
+	for c := range 256 {
+		b := []byte{byte(c)}
+		percent, _ := Encode(api.CodingPercent, b)
+		plain := strings.IndexByte("ABCDEFGHIJKLMNOPQRSTUVWXYZabcdefghijklmnopqrstuvwxyz0123456789-._~", byte(c)) >= 0
+		if (percent == string(b)) != plain || !plain && percent != "%"+strings.ToUpper(hex.EncodeToString(b)) {
+			t.Error(c, percent)
+		}
+		escape, _ := Encode(api.CodingEscape, b)
+		if plain := c >= 32 && c < 127 && c != 92; (escape == string(b)) != plain {
+			t.Error(c, escape)
+		}
+		for _, coding := range all {
+			s, _ := Encode(coding, b)
+			if back, e := Decode(coding, s); e != api.OK || !bytes.Equal(back, b) {
+				t.Error(c, coding, e)
+			}
+		}
+		// Whether the byte is part of each of the runs.
+		_, e := Decode(api.CodingHex, string(b)+"0")
+		_, f := Decode(api.CodingBase64, string(b)+"QAA")
+		sign := c == '+' || c == '/' || plain && strings.IndexByte("-._~", byte(c)) < 0
+		if got := Runs([]byte("%41bcdefg" + string(b))); slices.ContainsFunc(got, func(r api.Run) bool { return r.Coding == api.CodingPercent && r.To == 10 }) != (c >= 33 && c <= 126 && c != '%') || (e == api.OK) != (c < 128 && strings.ContainsRune("0123456789abcdefABCDEF", rune(c))) || (f == api.OK) != sign {
+			t.Error(c, got, e, f)
+		}
+		if got := Runs([]byte("QAAAAAA" + string(b))); slices.ContainsFunc(got, func(r api.Run) bool { return r.Coding == api.CodingBase64 }) != (sign || c == '=') {
+			t.Error(c, got)
 		}
 	}
 }

@@ -189,3 +189,17 @@ func TestProves(t *testing.T) {
 		}
 	}
 }
+
+// P29.2: what is removed in between, or at the time itself, and two ways that go on from one.
+func TestRemoved(t *testing.T) {
+	a := api.Estate{Places: 3, Events: []api.Access{put(1, 0, 0), remove(2, 0, 0), move(3, 0, 1)}}
+	if Proves(a, 0, 1, 3, []int{0, 2}) || Proves(a, 0, 0, 2, []int{0}) || !Proves(a, 0, 0, 1, []int{0}) {
+		t.Error("removed")
+	}
+	a = api.Estate{Places: 5, Events: []api.Access{put(1, 0, 0), move(2, 0, 1), move(3, 1, 2), move(4, 2, 3), move(5, 2, 4)}}
+	for place, want := range [][]int{{0}, {0, 1}, {0, 1, 2}, {0, 1, 2, 3}, {0, 1, 2, 4}} {
+		if way, ok := Way(a, 0, place, 9); !ok || !slices.Equal(way, want) {
+			t.Error(place, way)
+		}
+	}
+}

@@ -166,6 +166,12 @@ func TestLimit(t *testing.T) {
 			t.Error(n, sum, e, f)
 		}
 	}
+	for n, want := range map[int]api.Errno{65524: api.OK, 65525: api.ErrLimit} {
+		s := []byte("%252525" + strings.Repeat("-", n-24) + "00000000-00000000") // at n = 65524 exactly MaxDecoded
+		if _, e := Texts(s); e != want {
+			t.Error(n, e)
+		}
+	}
 	s := []byte("%252525" + strings.Repeat("a", 65529))
 	if texts, e := Texts(s); e != api.ErrLimit || len(texts) > 0 || len(sizes) != 2 {
 		t.Error(e, sizes)
@@ -191,5 +197,17 @@ func TestLess(t *testing.T) {
 				t.Error(i, k)
 			}
 		}
+	}
+}
+
+// P10.2: no two hits share memory.
+func TestShares(t *testing.T) {
+	hits, e := Scan(kinds(t, "word abc\n"), []byte(encode(api.CodingHex, "abc abc")+" "))
+	if e != api.OK || len(hits) != 2 {
+		t.Fatal(hits, e)
+	}
+	hits[0].Layers[0].From = 99
+	if hits[1].Layers[0].From != 0 {
+		t.Error("shared memory")
 	}
 }

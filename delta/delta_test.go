@@ -73,7 +73,7 @@ func TestMake(t *testing.T) {
 			t.Error(e)
 		}
 	}
-	if ops, e := Make(big[1:], big[2:]); e != api.OK || Check(big[1:], ops) != api.OK {
+	if ops, e := Make(big[1:], big[1:]); e != api.OK || Check(big[1:], ops) != api.OK {
 		t.Error(e)
 	}
 }
@@ -86,7 +86,7 @@ func TestFormat(t *testing.T) {
 		want string
 		e    api.Errno
 	}{
-		{nil, "", 0}, {[]api.Op{cut(1, 2), insert("xy")}, "\x01\x00\x00\x01\x00\x00\x02\x00\x00\x00\x02xy", 0}, {[]api.Op{cut(65536, 65536)}, "\x01\x01\x00\x00\x01\x00\x00", 0}, {[]api.Op{insert(long)}, "\x00\x01\x00\x00" + long, 0},
+		{nil, "", 0}, {[]api.Op{cut(1, 2), insert("xy")}, "\x01\x00\x00\x01\x00\x00\x02\x00\x00\x00\x02xy", 0}, {[]api.Op{cut(0, 1), insert("x"), cut(5, 1)}, "\x01\x00\x00\x00\x00\x00\x01\x00\x00\x00\x01x\x01\x00\x00\x05\x00\x00\x01", 0}, {[]api.Op{cut(65536, 65536)}, "\x01\x01\x00\x00\x01\x00\x00", 0}, {[]api.Op{insert(long)}, "\x00\x01\x00\x00" + long, 0},
 		{[]api.Op{cut(65537, 1)}, "", api.ErrLimit}, {[]api.Op{cut(0, 65537)}, "", api.ErrLimit}, {[]api.Op{insert(long + "x")}, "", api.ErrLimit}, {times(201, cut(0, 1)), "", api.ErrLimit}, {[]api.Op{cut(-1, 1), cut(0, 65537)}, "", api.ErrLimit},
 		{[]api.Op{cut(-1, 1)}, "", api.ErrRange}, {[]api.Op{cut(0, -1)}, "", api.ErrRange}, {[]api.Op{{}}, "", api.ErrRange}, {[]api.Op{{From: 1, Data: []byte("x")}}, "", api.ErrRange}, {[]api.Op{{Size: 1, Data: []byte("x")}}, "", api.ErrRange}, {[]api.Op{cut(5, 0)}, "", api.ErrRange},
 	} {

@@ -174,3 +174,11 @@ func TestProves(t *testing.T) {
 		t.Error("Closed")
 	}
 }
+
+// P23.3: a chain of all principals.
+func TestWhole(t *testing.T) {
+	d := api.Directory{Kinds: []int{person, group, group}, Events: []api.Member{join(0, 0, 1), join(0, 1, 2)}}
+	if !Proves(d, 0, []int{0, 1, 2}) || Proves(d, 0, []int{0, 1, 2, 2}) {
+		t.Error("a chain of all")
+	}
+}

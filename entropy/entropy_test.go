@@ -43,7 +43,7 @@ func TestLog(t *testing.T) {
 		}
 		last = got
 	}
-	for _, n := range []int{1<<30 - 1, 1<<29 + 12345, 987654321} {
+	for _, n := range []int{759250125, 1<<30 - 1, 1<<29 + 12345, 987654321} {
 		if Log(n) != slow(n) {
 			t.Error(n)
 		}

@@ -140,6 +140,10 @@ func TestErrors(t *testing.T) {
 			t.Error(i)
 		}
 	}
+	short := api.Rotation{Known: s.Known, Valid: s.Valid}
+	if Forward(f, s, short) || Forward(f, short, s) || !Forward(f, s, s) {
+		t.Error("a state that is not right")
+	}
 	ok := api.Fleet{Slots: 1, Consumers: []api.Consumer{consumer(3, 0)}}
 	end := api.Rotation{Known: 3, Valid: 2, Units: []api.Unit{{Up: true, Stored: 2, Used: 2}}}
 	if l, e := Make(ok, end); e != api.OK || len(l) != 0 {

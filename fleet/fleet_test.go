@@ -19,7 +19,7 @@ func TestCheck(t *testing.T) {
 	for i, x := range []struct {
 		f  api.Fleet
 		ok bool
-	}{{fleet(1, c), true}, {fleet(2, slices.Repeat([]api.Consumer{c}, 8)...), true}, {fleet(0, c), false}, {fleet(3, c), false}, {fleet(1), false}, {fleet(2, slices.Repeat([]api.Consumer{c}, 9)...), false}, {fleet(1, api.Consumer{Pool: 8}), false}, {fleet(1, api.Consumer{Pool: -1}), false}} {
+	}{{fleet(1, c), true}, {fleet(1, api.Consumer{}), true}, {fleet(2, slices.Repeat([]api.Consumer{c}, 8)...), true}, {fleet(0, c), false}, {fleet(3, c), false}, {fleet(1), false}, {fleet(2, slices.Repeat([]api.Consumer{c}, 9)...), false}, {fleet(1, api.Consumer{Pool: 8}), false}, {fleet(1, api.Consumer{Pool: -1}), false}} {
 		e := Check(x.f)
 		s, e2 := Start(x.f)
 		if (e == api.OK) != x.ok || e != api.OK && e != api.ErrFleet || e2 != e {

@@ -86,6 +86,12 @@ func TestClear(t *testing.T) {
 			t.Error(c)
 		}
 	}
+	for c := range 256 {
+		sign := c >= '0' && c <= '9' || c >= 'A' && c <= 'Z' || c >= 'a' && c <= 'z'
+		if Clear(whole, []byte{byte(c), '.'}, 1, 2) == sign || Clear(whole, []byte{'.', byte(c)}, 0, 1) == sign {
+			t.Error(c)
+		}
+	}
 	for _, c := range [][2]int{{-1, 2}, {0, 10}, {3, 2}, {math.MinInt, math.MaxInt}} {
 		if Clear(loose, b, c[0], c[1]) || Passes(loose, b, c[0], c[1]) {
 			t.Error(c)

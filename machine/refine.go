@@ -7,9 +7,8 @@ type partition struct {
 	blocks []int // for each state
 	begins []int // for each block
 	ends   []int
-	marked []int  // for each block, how many states at its front are marked
-	waits  []bool // for each block, whether it has still to be looked from
-	queue  []int
+	marked []int // for each block, how many states at its front are marked
+	queue  []int // the blocks from which it has still to be looked
 	marks  []int // the blocks with marked states
 }
 
@@ -35,7 +34,6 @@ func refined(leads [][]int, accepts []bool) []int {
 	for len(p.queue) > 0 {
 		block := p.queue[len(p.queue)-1]
 		p.queue = p.queue[:len(p.queue)-1]
-		p.waits[block] = false
 		targets = append(targets[:0], p.states[p.begins[block]:p.ends[block]]...)
 		for _, r := range from {
 			for _, to := range targets {
@@ -71,7 +69,7 @@ func reversed(leads []int) reverse {
 	return r
 }
 
-// begin makes a block of the states that stand at these places, and lets it wait.
+// begin makes a block of the states that stand at these places, and puts it into the queue.
 func (p *partition) begin(from, to int) {
 	for _, state := range p.states[from:to] {
 		p.blocks[state] = len(p.begins)
@@ -80,7 +78,6 @@ func (p *partition) begin(from, to int) {
 	p.begins = append(p.begins, from)
 	p.ends = append(p.ends, to)
 	p.marked = append(p.marked, 0)
-	p.waits = append(p.waits, true)
 }
 
 // mark puts a state, which is not marked, to the front of its block.
@@ -96,7 +93,7 @@ func (p *partition) mark(state int) {
 	p.marked[block]++
 }
 
-// split parts each block into its marked states and the others. The lesser part becomes the new block: it alone has to be looked from, if the block does not wait.
+// split parts each block into its marked states and the others. The lesser part becomes the new block: it alone has to be looked from, if the block is not in the queue any more.
 func (p *partition) split() {
 	for _, block := range p.marks {
 		from, to := p.begins[block], p.ends[block]

@@ -180,7 +180,7 @@ func TestSizes(t *testing.T) {
 // P5.3
 func TestText(t *testing.T) {
 	for s, n := range map[string]api.Node{
-		"a": a, "ab": seq(a, b), "a|b": choice(a, b), "a{2}": repeat(a, 2, 2), "a{0,2}": repeat(a, 0, 2), "(ab|c){2}": repeat(choice(seq(a, b), c), 2, 2), "(a{2}){3,4}": repeat(repeat(a, 2, 2), 3, 4),
+		"a": a, "ab": seq(a, b), "a|b": choice(a, b), "a{2}": repeat(a, 2, 2), "a{0,2}": repeat(a, 0, 2), "a{19,29}": repeat(a, 19, 29), "(ab|c){2}": repeat(choice(seq(a, b), c), 2, 2), "(a{2}){3,4}": repeat(repeat(a, 2, 2), 3, 4),
 		"a(b|c)": seq(a, choice(b, c)), "ab{2}|c": choice(seq(a, repeat(b, 2, 2)), c), "(ab){2}": repeat(seq(a, b), 2, 2), "[a-cf]": set("acff"), "[ac]": set("aacc"), "[a-b]": set("ab"),
 		"\\x2d": set("--"), "\\x5c": set("\\\\"), "\\x20": set("  "), "\\x7f": set("\x7f\x7f"), "~": set("~~"), "!": set("!!"), "[\\x00-\\xff]": set("\x00\xff"), "[\\x2d0-\\x7b]": set("--0{"), ",": set(",,"),
 		"\\x5b\\x5d\\x28\\x29\\x7b\\x7d\\x7c": Word("[](){}|"),

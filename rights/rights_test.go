@@ -177,3 +177,14 @@ func TestProves(t *testing.T) {
 		t.Error(Bound(x, []int{1, 2}))
 	}
 }
+
+// P25.3: two chains that go on from one.
+func TestBranches(t *testing.T) {
+	mint := func(from, to int) api.Mint { return api.Mint{From: from, To: to} }
+	x := of(6, 2, []api.Grant{grant(4, 0, 1), grant(5, 1, 1)}, nil, []api.Mint{mint(0, 1), mint(1, 2), mint(2, 3), mint(3, 4), mint(3, 5)})
+	for resource := range 2 {
+		if chain, ok := Why(x, 0, resource); !ok || !Proves(x, 0, resource, 1, chain) {
+			t.Error(resource, chain)
+		}
+	}
+}

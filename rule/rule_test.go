@@ -87,7 +87,7 @@ var kinds2 = []api.Kind{{Name: "one"}, {Name: "two"}}
 
 var found = api.Finding{Kind: 1, Fingerprint: 77, Where: []api.Spot{
 	{Place: api.Place{Source: 3, Path: "docs/a.txt", Time: 9}, Layers: make([]api.Layer, 2), From: 10, To: 15},
-	{Place: api.Place{Source: 0, Path: "", Time: -5}, From: math.MinInt, To: math.MaxInt}, {From: 5, To: 4},
+	{Place: api.Place{Source: 0, Path: "", Time: -5}, From: math.MinInt, To: math.MaxInt}, {From: 5, To: 4}, {From: 5, To: 5},
 }}
 
 // P21.2
@@ -109,11 +109,16 @@ func TestHolds(t *testing.T) {
 				t.Error(i, k)
 			}
 		}
-		for _, spot := range []int{-1, 3} {
+		for _, spot := range []int{-1, 4} {
 			if Holds(c.c, kinds2, found, spot) || Holds(kids(api.TermNot, c.c), kinds2, found, spot) {
 				t.Error(i, spot)
 			}
 		}
+	}
+	first := found
+	first.Kind = 0
+	if !Holds(text(api.TermKind, "one"), kinds2, first, 0) {
+		t.Error("the first kind")
 	}
 	for _, kind := range []int{-1, 2} {
 		f := found
@@ -122,7 +127,7 @@ func TestHolds(t *testing.T) {
 			t.Error("a kind without a name")
 		}
 	}
-	if !Holds(number(api.TermLength, api.MaxTime), kinds2, found, 1) || Holds(number(api.TermLength, 0), kinds2, found, 2) || !Holds(number(api.TermBefore, 0), kinds2, found, 1) {
+	if !Holds(number(api.TermLength, api.MaxTime), kinds2, found, 1) || Holds(number(api.TermLength, 0), kinds2, found, 2) || !Holds(number(api.TermLength, 0), kinds2, found, 3) || Holds(number(api.TermLength, 1), kinds2, found, 3) || !Holds(number(api.TermBefore, 0), kinds2, found, 1) {
 		t.Error("numbers at their bounds")
 	}
 }
@@ -130,7 +135,7 @@ func TestHolds(t *testing.T) {
 // P21.2
 func TestJudge(t *testing.T) {
 	l := []api.Rule{rule("a", text(api.TermPath, "src/")), {Name: "b", When: text(api.TermKind, "two"), Verdict: api.VerdictReal}, rule("c", number(api.TermDepth, 0)), rule("d", number(api.TermDepth, 0))}
-	for i, c := range []struct{ from, spot, verdict, by int }{{0, 0, api.VerdictReal, 1}, {2, 0, api.VerdictFalse, 0}, {0, 3, api.VerdictReal, -1}, {0, -1, api.VerdictReal, -1}, {4, 0, api.VerdictReal, -1}} {
+	for i, c := range []struct{ from, spot, verdict, by int }{{0, 0, api.VerdictReal, 1}, {2, 0, api.VerdictFalse, 0}, {0, 4, api.VerdictReal, -1}, {0, -1, api.VerdictReal, -1}, {4, 0, api.VerdictReal, -1}} {
 		if v, by := Judge(l[c.from:], kinds2, found, c.spot); v != c.verdict || by != c.by {
 			t.Error(i, v, by)
 		}

@@ -135,6 +135,9 @@ func TestErrors(t *testing.T) {
 	if e != api.ErrLimit || f != api.ErrLimit {
 		t.Error(e, f)
 	}
+	if m, e := Kind(l, 0, long[1:]); len(m) != api.MaxBytes/2 || e != api.OK {
+		t.Error(e)
+	}
 	if m, e := All(l, nil); len(m) != 0 || e != api.OK {
 		t.Error(m, e)
 	}

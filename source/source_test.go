@@ -144,6 +144,13 @@ func TestBounds(t *testing.T) {
 	if e != api.OK || len(l) != 1 || l[0].Places[0].Path != "a" || len(l[0].Data) != api.MaxBytes {
 		t.Error(e, len(l))
 	}
+	for n, want := range map[int]int{api.MaxBytes - 11: 2, api.MaxBytes - 10: 1} {
+		b := append([]byte("ARC1\x01\x01a\x00"), byte(n>>8), byte(n), 0)
+		b = append(b, strings.Repeat("x", n)...)
+		if l, e := Contents(api.Source{Name: "a", Kind: api.SourceArchive, Bytes: b}, 0); e != api.OK || len(l) != want {
+			t.Error(n, e, len(l))
+		}
+	}
 	inner, outer := "tree\n", "tree\n"
 	for i := range 60 {
 		inner += "1 n" + strconv.Itoa(100+i) + "\n"

@@ -169,3 +169,16 @@ func TestWalk(t *testing.T) {
 		}
 	}
 }
+
+// P33.1: the steps of the issuer have the Unit 0, also if there are more units.
+func TestUnits(t *testing.T) {
+	f := api.Fleet{Slots: 2, Consumers: make([]api.Consumer, 2)}
+	for kind, s := range map[int]api.Rotation{api.StepMake: state(1, 1, up(1, 1), up(1, 1)), api.StepEnable: state(3, 1, up(1, 1), up(1, 1)), api.StepSwap: state(3, 1, up(1, 1), up(1, 1)), api.StepRevoke: state(3, 3, up(1, 1), up(1, 1))} {
+		if _, e := Apply(f, s, step(kind, 1)); e != api.ErrRange || !Possible(f, s, step(kind, 0)) {
+			t.Error(kind, e)
+		}
+	}
+	if _, e := Apply(f, state(3, 1, up(1, 1), up(1, 1)), step(api.StepGive, 1)); e != api.OK {
+		t.Error(e)
+	}
+}
