@@ -81,7 +81,7 @@ func TestBounds(t *testing.T) {
 		want int
 	}{
 		{long, 0}, {"<>" + long, 1}, {"<> " + strings.Repeat(" ", 61) + long, 1}, {"<> " + strings.Repeat(" ", 62) + long, 0},
-		{long + strings.Repeat(" ", 62) + "<>", 1}, {long + strings.Repeat(" ", 63) + "<>", 0}, {long + "0<>", 0}, {"0" + long + "<>", 0}, {strings.Repeat("-", 400) + "<>" + long, 1},
+		{long + strings.Repeat(" ", 62) + "<>", 1}, {strings.Repeat(" ", 10) + long + strings.Repeat(" ", 62) + "<>", 1}, {long + strings.Repeat(" ", 63) + "<>", 0}, {long + "0<>", 0}, {"0" + long + "<>", 0}, {strings.Repeat("-", 400) + "<>" + long, 1},
 	} {
 		all, _ := scan.All(l, []byte(c.s))
 		if len(all) != c.want {
