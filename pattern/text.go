@@ -68,9 +68,9 @@ func setText(l []api.Range) string {
 
 func byteText(c byte) string {
 	if notation.Plain(rune(c)) {
-		return string(rune(c))
+		return string([]byte{c})
 	}
-	return "\\x" + string(hexDigits[c>>4]) + string(hexDigits[c&15])
+	return string([]byte{'\\', 'x', hexDigits[c>>4], hexDigits[c&15]})
 }
 
 // Parse returns the valid pattern whose text this is.
